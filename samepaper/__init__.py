@@ -1,0 +1,1 @@
+"""Samepaper: outcomes that are borne out by papers."""
