@@ -231,7 +231,8 @@ class LanguageTest(unittest.TestCase):
 
     def test_sets_stay_where_they_are(self):
         for name, node in nodes((ast.Set, ast.SetComp)):
-            self.assertIsInstance(node.above, (ast.Compare, ast.Assign), (name, node.lineno))
+            stands = isinstance(node.above, (ast.Compare, ast.Assign)) or is_iterated_at_once(node)
+            self.assertTrue(stands, (name, node.lineno))
         for name, node in nodes(ast.Call):
             if isinstance(node.func, ast.Name) and node.func.id == "set":
                 stands = isinstance(node.above, (ast.Compare, ast.Assign)) or is_iterated_at_once(node)
