@@ -246,7 +246,8 @@ def read_records(source):
 
 def read_functions(source):
     functions = []
-    while not functions or not source.is_done():
+    # Behind the records there is a line: that is where they were seen to end.
+    while not source.is_done():
         if source.first_word() != "function" or len(functions) == MOST_FUNCTIONS:
             raise NoText(source.at)
         functions.append(read_function(source))

@@ -158,6 +158,8 @@ class RefusedTest(unittest.TestCase):
             one + "function @f num\ngive 1\nend",
             one + "function g @zz\ngive 1\nend",
             one + "function g num a @zz\ngive 1\nend",
+            one + "function g num a num b @zz\ngive 1\nend",
+            one + "function g num a num b row c num d @zz\ngive 1\nend",
             one + "function g num a num @a num\ngive 1\nend",
             one + "function g num a num b num c num @b row\ngive 1\nend",
             one + "function @f zz a zz a zz\ngive 1\nend",

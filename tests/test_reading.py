@@ -88,6 +88,7 @@ class TreesTest(unittest.TestCase):
         of_a = ("of", ("a",))
         for lines, statement in [
             (["let b a"], ("let", "b", of_a)),
+            (["let abcdefgh a"], ("let", "abcdefgh", of_a)),
             (["set a.b.c 1"], ("set", ("a", "b", "c"), 1)),
             (["set a -32768"], ("set", ("a",), -32768)),
             (["put a.b 1 a"], ("put", ("a", "b"), 1, of_a)),
@@ -304,7 +305,8 @@ class CountsTest(unittest.TestCase):
 
     def test_many(self):
         for word in ("make", "call g", "new g"):
-            self.assert_kept(body(f"give {word} 8" + " 1" * 8))
+            for many in range(9):
+                self.assert_kept(body(f"give {word} {many}" + " 1" * many))
             self.assert_beyond(body(f"give {word} 9" + " 1" * 9), 1)
 
     def test_words_of_expressions(self):
