@@ -24,9 +24,14 @@ KINDS = {
 }
 
 
+def is_whole(thing):
+    """Whether a thing is a whole number: truths are none."""
+    return isinstance(thing, int) and not isinstance(thing, bool)
+
+
 def is_number(thing):
-    """Whether a thing is a number: a whole one within the bounds, and no truth."""
-    return isinstance(thing, int) and not isinstance(thing, bool) and LOWEST <= thing <= HIGHEST
+    """Whether a thing is a number: a whole one within the bounds."""
+    return is_whole(thing) and LOWEST <= thing <= HIGHEST
 
 
 def taken_in(whole):
@@ -98,8 +103,13 @@ def put_of(values):
     return row[:place] + (number,) + row[place + 1:]
 
 
+def length_made(many):
+    """How many numbers a row has that is made of so many."""
+    return max(0, min(many, LONGEST))
+
+
 def many_of(values):
-    return (values[1],) * max(0, min(values[0], LONGEST))
+    return (values[1],) * length_made(values[0])
 
 
 def made_of(values):
