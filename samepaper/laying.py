@@ -2,8 +2,8 @@
 
 from samepaper.kinds import is_ended, kind_of_expr, kind_of_path, parts_of
 from samepaper.numbers import LONGEST, kinds_of
-from samepaper.shapes import name_given, row_operands
-from samepaper.sizes import SMALL_OPERANDS, SMALL_ROWS
+from samepaper.shapes import name_given
+from samepaper.sizes import SMALL_ROWS
 from samepaper.trees import found, within
 
 
@@ -83,9 +83,8 @@ class Laying:
         self.ends[self.block] = end
 
     def lay_row(self, row):
-        rows = self.rows[self.block]
-        operands = sum([len(row_operands(each)) for each in rows + [row]])
-        if len(rows) == SMALL_ROWS or operands > SMALL_OPERANDS:
+        # Operands are never too many: no row but a make has more than three, and a line has no more words than twelve.
+        if len(self.rows[self.block]) == SMALL_ROWS:
             behind = self.make_block(())
             self.lay_end(("go", behind, ()))
             self.block = behind

@@ -207,7 +207,8 @@ class TermsTest(ShapeCase):
         self.assert_match(holds(("n0", 5)), holds(("n77", (0, "n0")), ("r99999", ("make", 1))), holds(("n4", 1), ("n5", 1)))
         self.assert_none(holds(("n0", 5), ("n0", 5)), holds(("n0", 5), ("n1", 6), ("n0", 5)), holds(("x", 5)), holds(("n00", 5)),
                          holds(((0, "n0"), 5)), holds((0, 5)), holds((None, 5)), holds(("n0",)), holds(("n0", 5, 5)),
-                         holds(["n0", 5]), holds("n0"), holds(None), holds(([], 5)), holds(("n100000", 1)))
+                         holds(["n0", 5]), holds("n0"), holds(None), holds(([], 5)), holds(("n100000", 1)), holds(("x", None)),
+                         holds(("", ())))
 
     def test_knows(self):
         def knows(*told):
