@@ -2,7 +2,7 @@
 
 from samepaper.kinds import is_ended, kind_of_expr, kind_of_path, parts_of
 from samepaper.numbers import LONGEST, kinds_of
-from samepaper.shapes import name_given
+from samepaper.shapes import copy_of, name_given
 from samepaper.sizes import SMALL_ROWS
 from samepaper.trees import found, within
 
@@ -28,11 +28,6 @@ def unflat(tree, kind, values):
         fields.append(unflat(tree, inner, values[at:at + many]))
         at += many
     return tuple(fields)
-
-
-def copy_of(name):
-    """The operation that tells what a name has."""
-    return "copy" if name[0] == "n" else "keep"
 
 
 class Laying:

@@ -2,7 +2,7 @@
 
 from samepaper.given import Given, come_to, names_of
 from samepaper.lives import Lives
-from samepaper.remaking import in_order, made_by, put_end, put_row, ways_of, with_ways
+from samepaper.remaking import NewNames, in_order, made_by, put_end, put_row, ways_of, with_ways
 from samepaper.shapes import name_given
 
 
@@ -34,23 +34,15 @@ class Once:
         for block in self.reached:
             for name in names_of(self.blocks[block]):
                 self.times[name] = self.times.get(name, 0) + 1
-        self.many = {"n": 0, "r": 0}
+        self.fresh = NewNames(self.times)
 
     def is_given_again(self, name):
         return self.times[name] > 1
 
-    def new_name(self, kind):
-        """A name of this kind that is not given yet."""
-        while self.times.get(f"{kind}{self.many[kind]}") is not None:
-            self.many[kind] += 1
-        name = f"{kind}{self.many[kind]}"
-        self.times[name] = 1
-        return name
-
     def give(self, name, puts):
         """The name that is given for one from here on, which is put for it."""
         if self.is_given_again(name):
-            puts[name] = self.new_name(name[0])
+            puts[name] = self.fresh.new_name(name[0])
         return puts.get(name, name)
 
     def taken_at(self, block):

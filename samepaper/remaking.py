@@ -1,6 +1,22 @@
-"""What makers share: rows and ends made anew, and blocks in an order that follows their ways."""
+"""What makers share: rows and ends made anew, new names, and blocks in an order that follows their ways."""
 
 from samepaper.shapes import is_need, is_tick, targets_of
+
+
+class NewNames:
+    """Names that are not among those taken so far."""
+
+    def __init__(self, names):
+        self.taken = {name: True for name in names}
+        self.many = {"n": 0, "r": 0}
+
+    def new_name(self, kind):
+        """A name of this kind that is not taken yet; from now on it is."""
+        while f"{kind}{self.many[kind]}" in self.taken:
+            self.many[kind] += 1
+        name = f"{kind}{self.many[kind]}"
+        self.taken[name] = True
+        return name
 
 
 def put_operands(operands, puts):
@@ -90,6 +106,35 @@ def in_order(function):
                 seen[target] = True
                 left.append((target, list(targets_of(blocks[target][2]))))
     return behind[::-1]
+
+
+def with_reached(function, reached):
+    """A function with these blocks alone, those that are come to, numbered anew in their order."""
+    numbers = {block: at for at, block in enumerate(reached)}
+    blocks = []
+    for block in reached:
+        params, rows, end = function[2][block]
+        ways = [(numbers[target], args) for target, args in ways_of(end)]
+        blocks.append((params, rows, with_ways(end, ways)))
+    return function[:2] + (tuple(blocks),)
+
+
+def laid_by(params, args, living):
+    """What the begin of a block tells of the args just laid into its params: stands, and names that lead.
+
+    Each name among the args, and each living one, is led by a name of the block that has its value there. A param that
+    has a number, or what another name leads, is told by a stand.
+    """
+    leaders = {name: name for name in living}
+    stands = []
+    for param, operand in zip(params, args):
+        if isinstance(operand, int):
+            stands.append(((0, param), operand))
+        elif operand in leaders:
+            stands.append(((0, param), (0, leaders[operand])))
+        else:
+            leaders[operand] = param
+    return stands, leaders
 
 
 def made_by(makings):

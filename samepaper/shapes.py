@@ -14,6 +14,11 @@ def name_given(row):
     return None if is_tick(row) or is_need(row) else row[0]
 
 
+def copy_of(name):
+    """The operation that tells what a name has."""
+    return "copy" if name[0] == "n" else "keep"
+
+
 def row_operands(row):
     """The operands of a row, names and numbers."""
     if is_tick(row):

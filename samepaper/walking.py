@@ -1,7 +1,7 @@
 """The source's plain runner."""
 
 from samepaper.numbers import LONGEST, done, has_place
-from samepaper.steps import steps_of
+from samepaper.plans import steps_of
 from samepaper.ticks import Bounded
 from samepaper.trees import found
 

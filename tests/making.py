@@ -30,7 +30,7 @@ class MadeCase(unittest.TestCase):
         self.assertIsNone(second_checked(one, other, paper))
         self.assertIs(checked(one, other, paper), True)
 
-    def made(self, maker, middle, come_to=True):
+    def made(self, maker, middle, come_to=True, once=True, small=True):
         """A maker's outcome and paper, asked for all that each of them promises."""
         kept = copy.deepcopy(middle)
         told = maker(middle)
@@ -39,8 +39,8 @@ class MadeCase(unittest.TestCase):
         outcome, paper = told
         self.assertIs(right_middle(outcome), True)
         self.assertIsNone(second_right(outcome) if few_names(outcome) else None)
-        self.assertTrue(second_once(outcome))
-        self.assertTrue(second_small(outcome))
+        self.assertTrue(second_once(outcome) or not once)
+        self.assertTrue(second_small(outcome) or not small)
         self.assertEqual(faces(outcome), faces(middle))
         self.assertTrue(all_come_to(outcome) or not come_to)
         self.assert_let_by(middle, outcome, paper)

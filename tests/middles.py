@@ -159,13 +159,14 @@ def second_given(function):
     names = {name for params, rows, end in blocks for name in params}
     names |= {name for params, rows, end in blocks for row in rows for name in gives(row)}
     told = {b: set(names) for b in second_come_to(function)}
+    by_rows = [{name for row in rows for name in gives(row)} for params, rows, end in blocks]
     for name in names:
         ahead = [] if name in blocks[0][0] else [0]
         without = set(ahead)
         while ahead:
-            params, rows, end = blocks[ahead.pop()]
-            if not any(name in gives(row) for row in rows):
-                new = {t for t in leads(end) if name not in blocks[t][0]} - without
+            b = ahead.pop()
+            if name not in by_rows[b]:
+                new = {t for t in leads(blocks[b][2]) if name not in blocks[t][0]} - without
                 without |= new
                 ahead.extend(new)
         for b in without:
@@ -204,10 +205,12 @@ def second_ring(middle):
     for f, (word, results, blocks) in enumerate(middle):
         still = [b for b in second_come_to((word, results, blocks))
                  if ("tick",) not in blocks[b][1] and blocks[b][2][0] != "call"]
-        far = {(b, t) for b in still for t in leads(blocks[b][2]) if t in still}
+        far = {b: {t for t in leads(blocks[b][2]) if t in still} for b in still}
         for k in still:
-            far |= {(b, t) for b in still for t in still if (b, k) in far and (k, t) in far}
-        rings = [b for b in still if (b, b) in far]
+            for b in still:
+                if k in far[b]:
+                    far[b] |= far[k]
+        rings = [b for b in still if b in far[b]]
         if rings:
             return (f, min(rings), -1)
     return None

@@ -1,6 +1,8 @@
-"""For tests: what points 35 to 39 tell of outcomes, asked in a second way, name by name and way by way."""
+"""For tests: what points 35 to 42 tell of outcomes, asked in a second way, name by name and way by way."""
 
-from middles import gives, leads, reads, second_come_to
+from middles import gives, leads, reads, second_come_to, second_given
+
+from samepaper.terms import kind_of_term
 
 
 def faces(middle):
@@ -27,25 +29,21 @@ def first_touch(rows, end):
 
 
 def second_lives(function):
-    """For each block the set of names that live at its begin, asked along the ways on which a name is not given."""
+    """For each block the set of names that live at its begin, asked name by name, back from where it is read."""
     blocks = function[2]
     touches = [first_touch(rows, end) for params, rows, end in blocks]
-    ways = [leads(end) for params, rows, end in blocks]
+    ahead_of = [{b for b, block in enumerate(blocks) if at in leads(block[2])} for at in range(len(blocks))]
     told = [set() for block in blocks]
     for name in {name for touch in touches for name in touch}:
-        taken = {b for b, block in enumerate(blocks) if name in block[0]}
-        for b in set(range(len(blocks))) - taken:
-            seen, ahead = {b}, [b]
-            while ahead:
-                at = ahead.pop()
-                read = touches[at].get(name)
-                if read:
-                    told[b].add(name)
-                    break
-                if read is None:
-                    new = set(ways[at]) - taken - seen
-                    seen |= new
-                    ahead += new
+        ahead = [b for b, touch in enumerate(touches) if touch.get(name)]
+        seen = set(ahead)
+        while ahead:
+            b = ahead.pop()
+            if name not in blocks[b][0]:
+                told[b].add(name)
+                new = {p for p in ahead_of[b] if touches[p].get(name) is None} - seen
+                seen |= new
+                ahead += new
     return told
 
 
@@ -159,3 +157,90 @@ def unshared(function):
                 if b == c and r < s or b != c and goes_ahead(function, b, c):
                     return (b, r), (c, s)
     return None
+
+
+def calls_nobody(function):
+    return all(end[0] != "call" for params, rows, end in function[2])
+
+
+def calls_left(middle, outcome, number):
+    """The calls in a function of the outcome of functions that call nobody in the handed middle."""
+    return [end for params, rows, end in outcome[number][2] if end[0] == "call" and calls_nobody(middle[end[1]])]
+
+
+def slight_together(middle, number):
+    """Whether a function and those that its ends call and that call nobody are slight, added up."""
+    ends = [end for params, rows, end in middle[number][2]]
+    functions = [middle[number]] + [middle[end[1]] for end in ends if end[0] == "call" and calls_nobody(middle[end[1]])]
+    rows = [rows for function in functions for params, rows, end in function[2]]
+    names = sum(len(set(all_given(function))) for function in functions)
+    return len(rows) <= 12 and names <= 60 and all(len(each) <= 30 for each in rows)
+
+
+def comes_without(function, begin, head):
+    """The blocks that are come to from one without going through the head."""
+    come, ahead = {begin}, [begin]
+    while ahead:
+        new = {t for t in leads(function[2][ahead.pop()][2]) if t != head} - come
+        come |= new
+        ahead += new
+    return come
+
+
+def second_loops(function):
+    """For each head of a loop the set of the loop's blocks, as point 41 tells it."""
+    reached = second_come_to(function)
+    loops = {}
+    for h in reached:
+        tails = {t for t in reached if h in leads(function[2][t][2]) and (t == h or goes_ahead(function, h, t))}
+        if h != 0 and tails:
+            loops[h] = {h} | {b for b in reached if b != h and comes_without(function, b, h) & tails}
+    return loops
+
+
+def term_at(function, given, row):
+    """A row's term at a loop's head, given the names that are given for sure there in the handed function."""
+    by = {r[0]: r for params, rows, end in function[2] for r in rows if gives(r)}
+
+    def term(operand):
+        if isinstance(operand, int):
+            return operand
+        return (0, operand) if operand in given else (by[operand][1], *map(term, by[operand][2]))
+    return (row[1], *map(term, row[2]))
+
+
+def unmoved(function, outcome):
+    """A head and a row that point 41 does not let stay in the head's loop, or None; and how many it lets stay."""
+    given, stayed = second_given(function), 0
+    for head, loop in second_loops(outcome).items():
+        within = {name for b in loop for name in all_given((0, 0, [outcome[2][b]]))}
+        for row in [row for b in loop for row in outcome[2][b][1] if gives(row)]:
+            if not reads(row) & within:
+                # A head is a block of the handed function: no new one is any.
+                if kind_of_term(term_at(outcome, given[head], row)) is not None:
+                    return head, row
+                stayed += 1
+    return stayed
+
+
+def second_boxed(middle, numbers, rows):
+    """Whether a middle is boxed, asked thing by thing."""
+    boxes = {f"n{k}" for k in range(numbers)} | {f"r{k}" for k in range(rows)}
+    plain = lambda operand: isinstance(operand, int) or operand in boxes
+    for word, results, blocks in middle:
+        for params, lines, end in blocks:
+            if boxes & set(params) or end[0] in ("go", "fork") and any(end[k] for k in ((2,) if end[0] == "go" else (3, 5))):
+                return False
+            if end[0] == "call" and end[4] != () or end[0] == "fork" and not plain(end[1]):
+                return False
+            for r, row in enumerate([*lines, end]):
+                if reads(row) & boxes - {name for line in lines[:r] for name in gives(line)}:
+                    return False
+            for row in lines:
+                if row[0] == "need" and not plain(row[2]):
+                    return False
+                if gives(row) and row[1] in ("copy", "keep") and row[0] not in boxes and row[2][0] not in boxes:
+                    return False
+                if gives(row) and row[1] not in ("copy", "keep") and not (row[0] in boxes and all(map(plain, row[2]))):
+                    return False
+    return True
