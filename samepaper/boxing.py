@@ -64,7 +64,7 @@ def rows_read(rows, behind):
 
 
 def with_rows_read(function):
-    """A function without rows whose names nobody reads, but for rows that are gone so."""
+    """A function without rows whose names nobody reads; what a row that is gone reads does not count."""
     blocks = function[2]
     left = [rows for params, rows, end in blocks]
     reads = [{} for block in blocks]
@@ -76,7 +76,8 @@ def with_rows_read(function):
             behind = {operand: True for operand in end_operands(end)}
             for target in targets_of(end):
                 behind.update({name: True for name in reads[target] if name not in blocks[target][0]})
-            left[at], read = rows_read(rows, behind)
+            kept, read = rows_read(rows, behind)
+            left[at] = kept
             changed = changed or read != reads[at]
             reads[at] = read
     return function[:2] + (tuple([(block[0], rows, block[2]) for block, rows in zip(blocks, left)]),)
