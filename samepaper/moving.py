@@ -122,7 +122,8 @@ class Moving:
     def match_made(self, block, before, after):
         """A match with a block, of the names that it wants, for what the outcome wants there.
 
-        Told is by names that the handed function wants, so that earlier papers hold them.
+        Told is by names that the handed function wants, so that earlier papers hold them: where the outcome still wants
+        a name that stands ahead of a loop, the handed function wants it, too, or all that it will reckon it of.
         """
         wanted = {name: (0, name) for name in before.wanted_at(block)}
         terms = {name: wanted[name] for name in wanted}
